@@ -1,0 +1,1 @@
+"""Cutworths: searching games whose worths form a finite lattice."""
