@@ -7,6 +7,7 @@ import ast
 import builtins
 import pathlib
 import sys
+import warnings
 
 ROOT = pathlib.Path(__file__).resolve().parent.parent
 NAME = "cutworths"
@@ -51,7 +52,12 @@ class Checker:
         self.folder = folder
         self.paths = sorted(path for path in folder.iterdir() if path.name != "__pycache__")
         self.texts = {path.stem: path.read_text(encoding="utf-8") for path in self.paths if path.suffix == ".py"}
-        self.trees = {stem: ast.parse(text) for stem, text in self.texts.items()}
+        with warnings.catch_warnings():
+            # A line for which Python gives a warning is a breach of L27, told here as Python's own error.
+            warnings.simplefilter("error")
+            self.trees = {stem: ast.parse(text) for stem, text in self.texts.items()}
+            for stem, tree in self.trees.items():
+                compile(tree, f"{NAME}/{stem}.py", "exec")
         self.functions = [node for tree in self.trees.values() for node in ast.walk(tree)
                           if isinstance(node, ast.FunctionDef)]
         self.own_methods = {node.name for node in self.functions}

@@ -28,6 +28,8 @@ class Case(unittest.TestCase):
 NO_NUMBERS = (True, False, None, "1", 1.0, (1,), [1], b"1")
 # Things that are no sequences, though most have items.
 NO_SEQUENCES = (None, 3, True, "ab", "", {0: 1}, {0}, range(2), b"ab")
+# Things that are no names.
+NO_NAMES = (None, 3, "", "Go", "go1", "go ", "g-o", "abcdefghi", "\u00e4", "\u0101", "g\n", b"go", ["go"], ("g",), True)
 
 
 def is_lattice_table(table):

@@ -4,9 +4,8 @@ import itertools
 
 from cutworths.boards import Board, chains_of
 from cutworths.errors import BadBoard, BadLength, NoArrow
-from tests.base import Case, NO_NUMBERS, NO_SEQUENCES
+from tests.base import Case, NO_NAMES, NO_NUMBERS, NO_SEQUENCES
 
-NO_NAMES = (None, 3, "", "Go", "go1", "go ", "g-o", "abcdefghi", "\u00e4", "\u0101", "g\n", b"go", ["go"], ("g",), True)
 ALL_EDGES = [(x, y) for x in range(6) for y in range(6) if x != y]
 
 

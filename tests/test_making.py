@@ -218,6 +218,11 @@ class TestLowerSets(Case):
         self.refused(TooMany, {"most": 16}, lower_sets, 15, [(x, x + 1) for x in range(13)])
         self.refused(TooMany, {"most": 16}, lower_sets, 15, [])
 
+    def test_seventeen_lower_sets_are_too_many(self):
+        self.assertEqual(lower_lattice(4, []).size, 16)
+        self.refused(TooMany, {"most": 16}, lower_sets, 5, [(point, 4) for point in range(4)])
+        self.refused(TooMany, {"most": 16}, lower_lattice, 5, [(4, point) for point in range(4)])
+
     def test_points_that_do_not_fit(self):
         for call in (lower_sets, lower_lattice):
             for points in NO_NUMBERS + (-1, 16):
