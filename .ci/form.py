@@ -103,6 +103,16 @@ class Checker:
         for name in sorted(set(bound)):
             if bound.count(name) > 1:
                 self.tell("L15", stem, 0, f"{name} is bound twice")
+        taken = {node.name for node in self.trees[stem].body if isinstance(node, ast.ClassDef)}
+        for node in self.trees[stem].body:
+            if isinstance(node, ast.ImportFrom):
+                taken.update(alias.name for alias in node.names)
+        for node in ast.walk(self.trees[stem]):
+            name = node.arg if isinstance(node, ast.arg) else None
+            if isinstance(node, ast.Name) and not isinstance(node.ctx, ast.Load):
+                name = node.id
+            if name in taken:
+                self.tell("L15", stem, node, f"{name} is a class or an import of this file")
         used = {node.id for node in ast.walk(self.trees[stem]) if isinstance(node, ast.Name)}
         for node in self.trees[stem].body:
             if isinstance(node, ast.ImportFrom) and stem != "__init__":
