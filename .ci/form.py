@@ -205,6 +205,8 @@ class Checker:
         name = node.func.id if isinstance(node.func, ast.Name) else None
         if isinstance(node.func, ast.Attribute) and node.func.attr not in METHODS | self.own_methods:
             self.tell("L25", stem, node, f"the method {node.func.attr} is not used")
+        if name == "sorted" and node.keywords and self.is_set(node.args[0]):
+            self.tell("L24", stem, node, "a set is sorted without keywords")
         for argument in node.args:
             if name in AT_ONCE and isinstance(argument, ast.GeneratorExp):
                 self.tell("L7", stem, node, f"{name} takes a list")

@@ -2,6 +2,7 @@
 
 _LETTERS = "abcdefghijklmnopqrstuvwxyz"
 _FIGURES = "0123456789"
+_SIGNS = ("joins", "meets")
 
 
 def is_sequence(thing):
@@ -24,6 +25,11 @@ def is_whole(thing, least, most):
     return isinstance(thing, int) and not isinstance(thing, bool) and least <= thing <= most
 
 
+def is_sign(thing):
+    """Return whether the thing is "joins" or "meets"."""
+    return isinstance(thing, str) and thing in _SIGNS
+
+
 def is_name(thing):
     """Return whether the thing is a string of 1 to 8 letters from a to z."""
     return isinstance(thing, str) and 1 <= len(thing) <= 8 and all([letter in _LETTERS for letter in thing])
@@ -40,6 +46,16 @@ def order_fault(order, size):
         return -1
     for index in range(size):
         if not is_whole(order[index], 0, size - 1) or order[index] in order[:index]:
+            return index
+    return None
+
+
+def picks_fault(picks):
+    """Return the index of the first pick that is no whole number of 0 or more, -1 for no sequence, or None."""
+    if not is_sequence(picks):
+        return -1
+    for index, pick in enumerate(picks):
+        if not isinstance(pick, int) or isinstance(pick, bool) or pick < 0:
             return index
     return None
 

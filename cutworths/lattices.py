@@ -131,3 +131,22 @@ class Lattice:
         """Return the lower covers of a worth, ascending."""
         below = [x for x in range(self.size) if x != worth and self.table[x][worth]]
         return tuple([x for x in below if not any([self.table[x][z] for z in below if z != x])])
+
+
+def neutral_worth(lattice, sign):
+    """Return what a node of this sign makes of no children."""
+    return lattice.bottom if sign == "joins" else lattice.top
+
+
+def taken_in(lattice, sign, so_far, worth):
+    """Return what is so far at a node of this sign behind one more worth."""
+    if sign == "joins":
+        return lattice.join_of(so_far, worth)
+    return lattice.meet_of(so_far, worth)
+
+
+def gathered(lattice, sign, worths):
+    """Return the join or the meet of all these worths."""
+    # No node has more unlike worths than the lattice, however many children it has.
+    unlike = sorted(set(worths))
+    return lattice.join_all(unlike) if sign == "joins" else lattice.meet_all(unlike)

@@ -26,3 +26,8 @@ def renamed_position(position, names, others):
     cells, side, left = position
     new = {name: other for name, other in zip(names, others)}
     return (tuple([new.get(content, content) for content in cells]), side, left)
+
+
+def sign_at(position):
+    """Return the sign of a position that is open: side 0 joins, side 1 meets."""
+    return "joins" if position[1] == 0 else "meets"

@@ -33,7 +33,7 @@ class Diamond:
                 and self.second == other.second and self.third == other.third and self.high == other.high)
 
 
-def _spreads(lattice, x, y, z):
+def spreads(lattice, x, y, z):
     """Return whether meeting with x spreads over the join of y and z."""
     met = lattice.meet_of(x, lattice.join_of(y, z))
     return met == lattice.join_of(lattice.meet_of(x, y), lattice.meet_of(x, z))
@@ -42,7 +42,7 @@ def _spreads(lattice, x, y, z):
 def is_distributive(lattice):
     """Return whether every meet spreads over every join."""
     worths = range(lattice.size)
-    return all([_spreads(lattice, x, y, z) for x in worths for y in worths for z in worths])
+    return all([spreads(lattice, x, y, z) for x in worths for y in worths for z in worths])
 
 
 def _share_ends(lattice, rows):

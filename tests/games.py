@@ -181,3 +181,83 @@ def reached(rules, most=150, through_ends=False):
                 found[behind] = True
                 waiting.append(behind)
     return list(found)
+
+
+def own_next(rules, position):
+    """The positions behind the open moves, in their order."""
+    if own_end(rules, position) is not None:
+        return []
+    return [own_behind(position, move) for move in own_moves(rules, position)]
+
+
+def own_count(rules, position, most):
+    """The number of plays from a position, at least `most` if there are as many or more."""
+    if own_end(rules, position) is not None:
+        return 1
+    many = 0
+    for behind in own_next(rules, position):
+        many += own_count(rules, behind, most - many)
+        if many >= most:
+            break
+    return many
+
+
+def own_plays(rules, position, road=()):
+    """The couples (road, end worth) of all plays, from the left."""
+    if own_end(rules, position) is not None:
+        return [(road, own_worth(rules, position))]
+    return [play for at, behind in enumerate(own_next(rules, position))
+            for play in own_plays(rules, behind, road + (at,))]
+
+
+def own_shape(rules, position):
+    """The shape of the tree of a game."""
+    if own_end(rules, position) is not None:
+        return own_worth(rules, position)
+    return (("joins", "meets")[position[1]], tuple(own_shape(rules, behind) for behind in own_next(rules, position)))
+
+
+def small_games(seeds, most, least=1):
+    """The couples (rules, start) of random games of least to most plays, their worths up to 16."""
+    found = []
+    for seed in seeds:
+        rules = random_rules(seed)
+        start = (rules.start, rules.side, rules.left)
+        if least <= own_count(rules, start, most + 1) <= most:
+            found.append((rules, start))
+    return found
+
+
+def lively_rules(seed, worths):
+    """Some rules with moves for both sides and several plays, always the same for a seed."""
+    draw = random.Random(f"lively {seed}")
+    cells = draw.randint(3, 5)
+    edges = list(itertools.permutations(range(cells), 2))
+    ways = [(name, draw.sample(edges, draw.randint(2, 5))) for name in ("go", "up")]
+    kinds = [("dot", 0), ("king", 0), ("ant", 1), ("cat", 1)]
+    moves = []
+    for one, other in (("dot", "king"), ("ant", "cat")):
+        moves.append(("place", one, [draw.randrange(cells) for _ in range(draw.randint(1, 4))]))
+        moves.append(draw.choice([("turn", one, other), ("turn", other, one), ("place", other, [draw.randrange(cells)]),
+                                  ("step", one, "go"), ("take", one, "up"), ("pass", dict(kinds)[one])]))
+        moves.append(draw.choice([("step", one, "up"), ("take", one, "go"), ("turn", one, other), ("step", other, "go")]))
+    draw.shuffle(moves)
+    ends = [(("all", [("holds", draw.randrange(cells), draw.choice(["dot", "king"])),
+                      random_condition(draw, cells, ["go", "up"], ["ant", "cat"], 1)]), draw.randrange(worths))
+            for _ in range(draw.randint(2, 8))]
+    start = [draw.choice(["", "", "dot", "ant", "king", "cat"]) for _ in range(cells)]
+    return Rules(Board(cells, ways), kinds, moves, ends, [draw.randrange(worths) for _ in range(3)], draw.randint(2, 5),
+                 start, draw.randrange(2), worths)
+
+
+def lively_games(worths, many, most=300, least=8, unlike=3):
+    """The couples (rules, start) of the first so many lively games of least to most plays with so many unlike ends."""
+    found, seed = [], 0
+    while len(found) < many:
+        rules = lively_rules(seed, worths)
+        start = (rules.start, rules.side, rules.left)
+        if least <= own_count(rules, start, most + 1) <= most:
+            if len(set(worth for _, worth in own_plays(rules, start))) >= unlike:
+                found.append((rules, start))
+        seed += 1
+    return found
