@@ -27,7 +27,7 @@ def is_whole(thing, least, most):
 
 def is_sign(thing):
     """Return whether the thing is "joins" or "meets"."""
-    return isinstance(thing, str) and thing in _SIGNS
+    return thing in _SIGNS
 
 
 def is_name(thing):
