@@ -152,11 +152,16 @@ class Asking:
         return self._lows[0]
 
 
+def check_picks(picks):
+    """Raise BadPicks for the first item that is no pick."""
+    index = picks_fault(picks)
+    if index is not None:
+        raise BadPicks(index)
+
+
 def run_asking(asking, picks):
     """Ask the hanging leaf that each pick names, return the leaves asked, or raise BadPicks."""
-    fault = picks_fault(picks)
-    if fault is not None:
-        raise BadPicks(fault)
+    check_picks(picks)
     asked = []
     for pick in picks:
         hanging = asking.hanging_now()

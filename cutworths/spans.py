@@ -59,3 +59,7 @@ class Spans:
         row = self.span_rows[at]
         del self._spans[row[0]]
         return row
+
+    def put_spans(self, rows):
+        """Make the entries those of these rows, as span_rows told them."""
+        self._spans = {position: span for position, span in rows}
