@@ -76,6 +76,7 @@ class Checker:
             for node in ast.walk(self.trees[stem]):
                 self.check_node(stem, node)
         self.check_rings()
+        self.check_members()
         return self.breaches
 
     def check_text(self, stem, text):
@@ -148,6 +149,28 @@ class Checker:
                     waiting.extend(needs[other])
             if stem in reached:
                 self.tell("L16", stem, 0, "files import from each other in a ring")
+
+    def check_members(self):
+        """Names of methods and attributes over the whole package."""
+        stored, read = {}, {}
+        for stem, tree in self.trees.items():
+            for node in ast.walk(tree):
+                if isinstance(node, ast.Attribute):
+                    (read if isinstance(node.ctx, ast.Load) else stored).setdefault(node.attr, (stem, node))
+        decorated = [node for node in self.functions if node.decorator_list]
+        for node in self.functions:
+            if node.name in stored:
+                stem, place = stored[node.name]
+                self.tell("L18", stem, place, f"{node.name} is a method or function, too")
+        for node in decorated:
+            plain = [other for other in self.functions if other.name == node.name and not other.decorator_list]
+            methods = [item for tree in self.trees.values() for made in ast.walk(tree)
+                       if isinstance(made, ast.ClassDef) for item in made.body]
+            if any(other in methods for other in plain):
+                self.tell("L5", "", node, f"{node.name} is a plain method, too")
+        for name, (stem, node) in read.items():
+            if name not in stored and name not in METHODS and name not in self.own_methods:
+                self.tell("L18", stem, node, f"{name} is assigned by no class")
 
     def check_node(self, stem, node):
         if isinstance(node, BARRED_NODES):
