@@ -5,22 +5,22 @@ from cutworths.judge import check_which, children_at, is_reached, neutral_bound,
 from cutworths.lattices import check_worth, neutral_worth, taken_in
 
 
-def _has_some(lot, bounds):
-    """Return whether a leaf of the lot lies within these bounds, a first and a last leaf."""
-    first, last = bounds
-    return any([first <= leaf <= last for leaf in lot])
+def _nodes_over(tree, lot):
+    """Return the nodes at or beneath which some leaf of the lot lies, as keys."""
+    nodes = {}
+    for leaf in lot:
+        node = tree.leaves[leaf]
+        while node is not None and node not in nodes:
+            nodes[node] = True
+            node = tree.parents[node]
+    return nodes
 
 
-def _part_from(lattice, tree, lot, node, which):
-    """Return the part for a node at or beneath which a leaf of the lot lies, or for the root."""
-    if not _has_some(lot, tree.leaves_under(node)):
-        return (neutral_bound(lattice, which), ())
-    parts = []
-    for at, child in enumerate(children_at(tree, node)):
-        first, last = tree.leaves_under(child)
-        inner = [leaf for leaf in lot if first <= leaf <= last]
-        if len(inner) > 0:
-            parts.append((at, _part_from(lattice, tree, inner, child, which)))
+def _part_from(lattice, tree, nodes, node, which):
+    """Return the part for a node that names its children among these nodes."""
+    children = children_at(tree, node)
+    parts = [(at, _part_from(lattice, tree, nodes, child, which))
+             for at, child in enumerate(children) if child in nodes]
     bounds = {at: part[0] for at, part in parts}
     return (shown_by(lattice, tree, node, which, bounds), tuple(parts))
 
@@ -28,7 +28,10 @@ def _part_from(lattice, tree, lot, node, which):
 def certificate_from(lattice, tree, lot, which):
     """Return the certificate that a lot of leaves gives, or raise BadLot or BadWhich."""
     checked = check_lot(tree, lot)
-    return _part_from(lattice, tree, checked, 0, check_which(which))
+    check_which(which)
+    if len(checked) == 0:
+        return (neutral_bound(lattice, which), ())
+    return _part_from(lattice, tree, _nodes_over(tree, checked), 0, which)
 
 
 def both_from(lattice, tree, lot):
@@ -41,10 +44,10 @@ def leaves_named(tree, part, node, neutral):
     bound, couples = part
     if tree.is_leaf(node):
         return () if bound == neutral else (tree.leaves_under(node)[0],)
-    found = ()
+    found = []
     for child, inner in couples:
-        found = found + leaves_named(tree, inner, children_at(tree, node)[child], neutral)
-    return found
+        found.extend(leaves_named(tree, inner, children_at(tree, node)[child], neutral))
+    return tuple(found)
 
 
 def cited_leaves(lattice, tree, certificate, which):

@@ -225,7 +225,7 @@ class Desk:
         """Do the deeds until one is refused, take them all back, and return the Trial."""
         kept = (self.rules, self.made, self.seen, self.going, self.saved, self.log, self.position)
         tolds, refused = [], None
-        for number, deed in enumerate(deeds):
+        for number, deed in enumerate(list(deeds)):
             try:
                 tolds.append(self.do_deed(deed))
             except WorthError:

@@ -1,5 +1,6 @@
 """Questions: whether a prime is at most the worth, and the worth by its primes."""
 
+from cutworths.checks import is_sequence
 from cutworths.cutting import cut_search
 from cutworths.errors import BadGuess, NotPrime
 from cutworths.kepts import memory_search
@@ -25,7 +26,7 @@ class Answers:
 
     def __init__(self, worth, answers):
         self.worth = worth
-        self.answers = tuple(answers)
+        self.answers = tuple(answers) if is_sequence(answers) else answers
 
     def __eq__(self, other):
         return isinstance(other, Answers) and self.worth == other.worth and self.answers == other.answers

@@ -1,7 +1,7 @@
 """Policies: what one side does in each position of a web to hold what it holds by a prime."""
 
 from cutworths.askers import check_picks
-from cutworths.checks import is_sign, is_whole
+from cutworths.checks import is_sequence, is_sequence_of, is_sign, is_whole
 from cutworths.maps import check_firm
 from cutworths.plans import picked_at
 from cutworths.positions import sign_at
@@ -14,7 +14,7 @@ class Policy:
     def __init__(self, prime, holder, choices):
         self.prime = prime
         self.holder = holder
-        self.choices = tuple(choices)
+        self.choices = tuple(choices) if is_sequence(choices) else choices
 
     def __eq__(self, other):
         return (isinstance(other, Policy) and self.prime == other.prime and self.holder == other.holder
@@ -70,7 +70,7 @@ def policy_fault(lattice, web, policy):
     check_firm(lattice, prime)
     if not is_sign(holder):
         return (0, "holder")
-    if len(policy.choices) != len(web):
+    if not is_sequence_of(policy.choices, len(web), len(web)):
         return (0, "choices")
     met = {0: True}
     for number, nexts in enumerate(web.nexts):

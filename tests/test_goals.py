@@ -247,3 +247,5 @@ class TestResults(Case):
         self.exactly(len(answers), 2)
         thing = object()
         self.assertIs(Answers(thing, []).worth, thing)
+        # Results check nothing.
+        self.assertIs(Answers(0, thing).answers, thing)

@@ -158,6 +158,8 @@ class TestPolicyFault(Case):
             self.exactly(policy_fault(lattice, web, Policy(1, holder, ())), (0, "holder"))
             self.exactly(policy_fault(lattice, web, Policy(1, holder, (None,) * len(web))), (0, "holder"))
         for holder in ("joins", "meets"):
+            for choices in (None, 3, "ab", {}):
+                self.exactly(policy_fault(lattice, web, Policy(1, holder, choices)), (0, "choices"))
             for many in (0, len(web) - 1, len(web) + 1):
                 self.exactly(policy_fault(lattice, web, Policy(1, holder, (0,) * many)), (0, "choices"))
 
@@ -229,6 +231,8 @@ class TestResults(Case):
         things = [object(), [1]]
         self.assertIs(Policy(*things, ()).prime, things[0])
         self.assertIs(Policy(*things, ()).holder, things[1])
+        # Results check nothing.
+        self.assertIs(Policy(*things, things[0]).choices, things[0])
 
     def test_play(self):
         self.assertEqual(Play((0,), (0, 1), 2), Play((0,), (0, 1), 2))
