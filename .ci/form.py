@@ -43,6 +43,87 @@ BARRED_NODES = (ast.Import, ast.Global, ast.AsyncFunctionDef, ast.AsyncFor, ast.
 AT_ONCE = set("any all min max sum sorted".split())
 VIEWS = set("range zip enumerate reversed".split())
 VIEW_TAKERS = AT_ONCE | set("list tuple dict enumerate zip reversed len".split())
+GROWERS = set("extend update".split())
+# Calls that give what they are passed piece by piece, or a piece of it.
+PIECEWISE = set("zip enumerate reversed map iter next min max chain accumulate pairwise islice zip_longest".split())
+PIECES = set("items keys values get setdefault pop from_iterable".split())
+
+
+def names_in(target):
+    return [node.id for node in ast.walk(target) if isinstance(node, ast.Name) and isinstance(node.ctx, ast.Store)]
+
+
+def without_items(path):
+    while path[-1] == "[]":
+        path = path[:-1]
+    return path
+
+
+def lies_in(one, other):
+    """Whether what one path leads to may lie in what the other one leads to, whatever the indexes are."""
+    base = without_items(one)
+    return other[:len(base)] == base
+
+
+class Paths:
+    """What the expressions of a function may lead to: ("self", ".rows", "[]") is any item of self.rows."""
+
+    def __init__(self, function, generators):
+        self.generators = generators
+        # For each local name the expressions that it is assigned, or an item of which it is assigned.
+        self.sources = {}
+        for node in ast.walk(function):
+            if isinstance(node, ast.Assign):
+                for target in node.targets:
+                    self.note_source(target, node.value)
+            elif isinstance(node, (ast.AnnAssign, ast.NamedExpr)):
+                self.note_source(node.target, node.value)
+            elif isinstance(node, (ast.For, ast.comprehension)):
+                self.note_items(node.target, node.iter)
+
+    def note_source(self, target, value):
+        many = (ast.Tuple, ast.List)
+        if isinstance(target, ast.Name):
+            self.sources.setdefault(target.id, []).append((self.handed_paths, value))
+        elif isinstance(target, many) and isinstance(value, many) and len(target.elts) == len(value.elts):
+            for inner, item in zip(target.elts, value.elts):
+                self.note_source(inner, item)
+        else:
+            self.note_items(target, value)
+
+    def note_items(self, target, value):
+        for name in names_in(target):
+            self.sources.setdefault(name, []).append((self.paths_of, value))
+
+    def paths_of(self, node, met=()):
+        if isinstance(node, ast.Name):
+            sources = [] if node.id in met else self.sources.get(node.id, [])
+            return [(node.id,)] + [path for follow, value in sources for path in follow(value, met + (node.id,))]
+        if isinstance(node, ast.Attribute):
+            return [path + ("." + node.attr,) for path in self.paths_of(node.value, met)]
+        if isinstance(node, ast.Subscript):
+            return [path + ("[]",) for path in self.paths_of(node.value, met)]
+        if isinstance(node, (ast.IfExp, ast.BoolOp)):
+            parts = node.values if isinstance(node, ast.BoolOp) else [node.body, node.orelse]
+        elif isinstance(node, (ast.NamedExpr, ast.Starred)):
+            parts = [node.value]
+        elif isinstance(node, ast.GeneratorExp):
+            parts = [part.iter for part in node.generators]
+        else:
+            parts = self.parts_of_call(node) if isinstance(node, ast.Call) else []
+        return [path for part in parts for path in self.handed_paths(part, met)]
+
+    def handed_paths(self, node, met=()):
+        """The same, but a slice is a list of its own."""
+        copied = isinstance(node, ast.Subscript) and isinstance(node.slice, ast.Slice)
+        return [] if copied else self.paths_of(node, met)
+
+    def parts_of_call(self, node):
+        if isinstance(node.func, ast.Name):
+            return node.args if node.func.id in PIECEWISE | self.generators else []
+        if not isinstance(node.func, ast.Attribute) or node.func.attr not in PIECES | self.generators:
+            return []
+        return [node.func.value] + node.args
 
 
 class Checker:
@@ -61,10 +142,15 @@ class Checker:
         self.functions = [node for tree in self.trees.values() for node in ast.walk(tree)
                           if isinstance(node, ast.FunctionDef)]
         self.own_methods = {node.name for node in self.functions}
+        self.generators = {node.name for node in self.functions
+                           if any(isinstance(inner, (ast.Yield, ast.YieldFrom)) for inner in ast.walk(node))}
         self.breaches = []
 
     def tell(self, rule, stem, node, why):
-        self.breaches.append(f"{rule} {NAME}/{stem}.py:{getattr(node, 'lineno', node)}: {why}")
+        breach = f"{rule} {NAME}/{stem}.py:{getattr(node, 'lineno', node)}: {why}"
+        # A nested function is seen by itself and in the one around it.
+        if breach not in self.breaches:
+            self.breaches.append(breach)
 
     def check_all(self):
         for path in self.paths:
@@ -212,9 +298,25 @@ class Checker:
             self.tell("L5", stem, node, f"{node.name} is not defined")
         if node.name in ALL_BUILTINS or node.name in BARRED_NAMES:
             self.tell("L15", stem, node, f"{node.name} is no name for a function")
-        if any(isinstance(inner, (ast.Yield, ast.YieldFrom)) for inner in ast.walk(node)):
+        self.check_growing(stem, node)
+        if node.name in self.generators:
             if sum(other.name == node.name for other in self.functions) > 1:
                 self.tell("L23", stem, node, "no other function has a generator's name")
+
+    def check_growing(self, stem, function):
+        """What extend, update, += and |= are handed is neither what they change nor lies in it."""
+        paths = Paths(function, self.generators)
+        for node in ast.walk(function):
+            if isinstance(node, ast.AugAssign) and isinstance(node.op, (ast.Add, ast.BitOr)):
+                changed, handed = node.target, [node.value]
+            elif isinstance(node, ast.Call) and isinstance(node.func, ast.Attribute) and node.func.attr in GROWERS:
+                changed, handed = node.func.value, node.args
+            else:
+                continue
+            changed_paths = paths.paths_of(changed)
+            handed_paths = [path for part in handed for path in paths.handed_paths(part)]
+            if any(lies_in(one, other) or lies_in(other, one) for one in changed_paths for other in handed_paths):
+                self.tell("L5", stem, node, "what is changed here is handed over, or an item of it")
 
     def check_constant(self, stem, node):
         if isinstance(node.value, (float, complex)):

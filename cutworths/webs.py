@@ -77,7 +77,7 @@ def ways_to(web):
     ways[0] = 1
     for number, nexts in enumerate(web.nexts):
         for behind in nexts:
-            ways[behind] += ways[number]
+            ways[behind] = ways[behind] + ways[number]
     return tuple(ways)
 
 
